@@ -1,0 +1,1 @@
+"""Unlikeplace: talks that find a place where two words differ."""
