@@ -2,7 +2,7 @@ import itertools
 import random
 import unittest
 
-from tests.samples import ANYTHING, is_plain, words
+from tests.samples import ANYTHING, check_told, is_plain, words
 from unlikeplace.tables import grows, is_table, places_of, table_of, value_at
 
 SIZES = (2, 4, 8, 16, 32)
@@ -40,14 +40,14 @@ class IsTable(unittest.TestCase):
         for thing in ANYTHING:
             right = (type(thing) is tuple and len(thing) in SIZES
                      and all(type(bit) is int and bit in (0, 1) for bit in thing))
-            self.assertIs(is_table(thing), right, str(thing)[:80])
+            check_told(self, thing, is_table(thing), right)
 
     def test_another_thing_in_each_place(self):
         for size in SIZES:
             for at in range(size):
                 for thing in ANYTHING:
                     table = (0,) * at + (thing,) + (1,) * (size - at - 1)
-                    self.assertIs(is_table(table), type(thing) is int and thing in (0, 1), str(table)[:80])
+                    check_told(self, table, is_table(table), type(thing) is int and thing in (0, 1))
 
     def test_lists_texts_and_truths_are_none(self):
         self.assertIs(is_table([0, 1]), False)

@@ -1,6 +1,6 @@
 import unittest
 
-from tests.samples import ANYTHING, is_plain, looks_like_word, words
+from tests.samples import ANYTHING, check_told, is_plain, looks_like_word, words
 from unlikeplace.words import all_words, height, is_word
 
 
@@ -14,7 +14,7 @@ class IsWord(unittest.TestCase):
     def test_of_anything(self):
         for places in range(1, 6):
             for thing in ANYTHING:
-                self.assertIs(is_word(places, thing), looks_like_word(places, thing), str(thing)[:80])
+                check_told(self, thing, is_word(places, thing), looks_like_word(places, thing))
 
     def test_another_thing_in_each_place(self):
         for places in range(1, 6):
@@ -23,7 +23,7 @@ class IsWord(unittest.TestCase):
                     for thing in ANYTHING:
                         changed = word[:place] + (thing,) + word[place + 1:]
                         right = type(thing) is int and thing in (0, 1)
-                        self.assertIs(is_word(places, changed), right, str(changed)[:80])
+                        check_told(self, changed, is_word(places, changed), right)
 
     def test_a_truth_is_no_whole_number(self):
         self.assertIs(is_word(1, (True,)), False)
