@@ -141,9 +141,85 @@ def led(case, saying):
 
 
 def with_part_changed(thing, change):
-    """All things that come of changing one part of nested tuples, the whole being one."""
+    """All things that come of changing one part of nested tuples and lists, the whole being one."""
     changed = [change]
-    if type(thing) is tuple:
+    if type(thing) in (tuple, list):
         for at, part in enumerate(thing):
-            changed += [thing[:at] + (each,) + thing[at + 1:] for each in with_part_changed(part, change)]
+            changed += [thing[:at] + type(thing)([each]) + thing[at + 1:] for each in with_part_changed(part, change)]
     return changed
+
+
+def some_boxes(places, many, seed, most=32):
+    """Boxes of so many places, of at most so many words, both sorts together."""
+    chance = random.Random(seed)
+    boxes = []
+    while len(boxes) < many:
+        size = chance.randint(2, min(most, 2 ** places))
+        some = chance.sample(words(places), size)
+        middle = chance.randint(1, size - 1)
+        boxes.append((tuple(sorted(some[:middle])), tuple(sorted(some[middle:]))))
+    return boxes
+
+
+def some_rising_boxes(places, many, seed, most=32):
+    """Boxes of cases that grow."""
+    chance = random.Random(seed)
+    boxes = []
+    while len(boxes) < many:
+        saying = a_saying(places, chance.randint(1, 4), chance, (1,))
+        some = [word for word in words(places) if chance.random() < chance.choice((0.5, 1))]
+        chance.shuffle(some)
+        some = sorted(some[:most])
+        yes = tuple(word for word in some if value_plainly(saying, word) == 1)
+        no = tuple(word for word in some if value_plainly(saying, word) == 0)
+        if yes and no:
+            boxes.append((yes, no))
+    return boxes
+
+
+def many_boxes(seed, most=32):
+    """Boxes of each number of places, of cases that grow and of others."""
+    for places in range(1, 6):
+        yield from some_boxes(places, 25, seed + places, most)
+        yield from some_rising_boxes(places, 25, seed + 10 + places, most)
+
+
+def as_case(box):
+    return (len(box[0][0]), box[0], box[1])
+
+
+def parting_places(rule, yes, no):
+    """The places that part a pair by a rule."""
+    good = {(1, 0)} if rule == "rising" else {(0, 1), (1, 0)}
+    return [place for place, bits in enumerate(zip(yes, no)) if bits in good]
+
+
+def common_plainly(rule, box):
+    common = set(range(len(box[0][0])))
+    for yes, no in itertools.product(*box):
+        common &= set(parting_places(rule, yes, no))
+    return sorted(common)
+
+
+def a_let_by_talk(rule, box, chance):
+    """A talk that is let by for a box by a rule, with says of words that are in no box and branches for no pair."""
+    places = len(box[0][0])
+    common = common_plainly(rule, box)
+    if common and chance.random() < 0.6:
+        return ("end", chance.choice(common))
+    hand = chance.choice(("yes", "no"))
+    at = 0 if hand == "yes" else 1
+    rest = [word for word in words(places) if word not in box[at]]
+    said = {word for word in rest if chance.random() < 0.5}
+    if chance.random() < 0.3 or len(box[at]) == 1:
+        dead = a_talk(places, 2, chance)
+        live = ("end", common[0]) if common else a_let_by_talk(rule, box, chance)
+        if chance.random() < 0.5:
+            return (hand, tuple(sorted(said)), live, dead)
+        return (hand, tuple(sorted(said | set(box[at]))), dead, live)
+    loud = set(chance.sample(box[at], chance.randint(1, len(box[at]) - 1)))
+    parts = []
+    for bit in (False, True):
+        own = tuple(word for word in box[at] if (word in loud) == bit)
+        parts.append(a_let_by_talk(rule, (own, box[1]) if hand == "yes" else (box[0], own), chance))
+    return (hand, tuple(sorted(said | loud)), parts[0], parts[1])

@@ -30,6 +30,12 @@ def is_word(places, thing):
     return len(thing) == places and all([is_bit(bit) for bit in thing])
 
 
+def is_one_of(some, thing):
+    """Whether a thing is one of some words, one at least, all of as many places."""
+    # Asked first whether it is a word, since Python takes (True, 0) and (1, 0) for the same.
+    return is_word(len(some[0]), thing) and thing in some
+
+
 def is_rising(some):
     """Whether words are sorted, each once."""
     return all([some[k] < some[k + 1] for k in range(len(some) - 1)])
@@ -48,3 +54,8 @@ def height(number):
     if number <= 1:
         return 0
     return (number - 1).bit_length()
+
+
+def least_times(number, goal):
+    """The least whole number that times a number from 1 on is no less than a goal from 0 on; 0 where the goal is 0."""
+    return (goal + number - 1) // number
