@@ -4,7 +4,7 @@ from unlikeplace.ends import cut, ends_of
 from unlikeplace.errors import NoSaying, NoTalk
 from unlikeplace.sayings import parts, value
 from unlikeplace.talks import lets_by
-from unlikeplace.trees import upward
+from unlikeplace.trees import folded, upward
 
 JOIN_OF_HAND = {"yes": "or", "no": "and"}
 
@@ -13,15 +13,9 @@ def talk_of(case, saying):
     """The talk of a saying that parts a case, or NoSaying."""
     if not parts(case, saying):
         raise NoSaying("the saying doesn't part the case")
-    done = []
-    for part in upward(saying, "is"):
-        if part[0] == "is":
-            done.append(led_leaf(case, part))
-        else:
-            other = done.pop()
-            one = done.pop()
-            done.append(led_join(case, part[0], one, other))
-    return done[0][0]
+    led = folded(saying, "is", lambda leaf: led_leaf(case, leaf),
+                 lambda part, one, other: led_join(case, part[0], one, other))
+    return led[0]
 
 
 def led_leaf(case, leaf):

@@ -1,6 +1,6 @@
 """Sayings: what single places say of a word, put together by and and or."""
 
-from unlikeplace.trees import tree_deep, tree_leaves, upward
+from unlikeplace.trees import folded, tree_deep, tree_leaves, upward
 from unlikeplace.words import all_words, is_bit, is_place
 
 OTHER_JOIN = {"and": "or", "or": "and"}
@@ -23,15 +23,8 @@ def is_saying(places, thing):
 
 def value(saying, word):
     """The value of a saying at a word."""
-    values = []
-    for part in upward(saying, "is"):
-        if part[0] == "is":
-            values.append(1 if word[part[1]] == part[2] else 0)
-        else:
-            other = values.pop()
-            one = values.pop()
-            values.append(min(one, other) if part[0] == "and" else max(one, other))
-    return values[0]
+    return folded(saying, "is", lambda leaf: 1 if word[leaf[1]] == leaf[2] else 0,
+                  lambda part, one, other: min(one, other) if part[0] == "and" else max(one, other))
 
 
 def deep(saying):
@@ -51,15 +44,8 @@ def table_by(places, saying):
 
 def against(saying):
     """The saying that has the other value at each word."""
-    turned = []
-    for part in upward(saying, "is"):
-        if part[0] == "is":
-            turned.append(("is", part[1], 1 - part[2]))
-        else:
-            other = turned.pop()
-            one = turned.pop()
-            turned.append((OTHER_JOIN[part[0]], one, other))
-    return turned[0]
+    return folded(saying, "is", lambda leaf: ("is", leaf[1], 1 - leaf[2]),
+                  lambda part, one, other: (OTHER_JOIN[part[0]], one, other))
 
 
 def without_not(saying):

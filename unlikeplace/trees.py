@@ -17,17 +17,23 @@ def upward(tree, leaf):
     return downward[::-1]
 
 
-def tree_deep(tree, leaf):
-    """The depth of a tree."""
-    depths = []
+def folded(tree, leaf, of_leaf, of_fork):
+    """What comes of a tree: of_leaf tells it of a leaf, of_fork of another part and of what came of its last two."""
+    done = []
     for part in upward(tree, leaf):
         if part[0] == leaf:
-            depths.append(0)
+            done.append(of_leaf(part))
         else:
-            other = depths.pop()
-            one = depths.pop()
-            depths.append(1 + max(one, other))
-    return depths[0]
+            second = done.pop()
+            first = done.pop()
+            done.append(of_fork(part, first, second))
+    return done[0]
+
+
+def tree_deep(tree, leaf):
+    """The depth of a tree."""
+    return folded(tree, leaf, lambda part: 0,
+                  lambda part, first, second: 1 + max(first, second))
 
 
 def tree_leaves(tree, leaf):
