@@ -155,6 +155,19 @@ class Language(unittest.TestCase):
                         if isinstance(part, ast.Name):
                             self.assertIn(part.id, known, where)
 
+    def test_lambdas(self):
+        for name, tree in self.trees.items():
+            found = [(node.lineno, tuple(each.arg for each in node.args.args)) for node in ast.walk(tree)
+                     if isinstance(node, ast.Lambda)]
+            self.assertEqual(len(found), len(set(found)), name)
+
+    def test_iterated_at_once(self):
+        for where, node in self.nodes():
+            if isinstance(node, (ast.Assign, ast.Return)) and isinstance(node.value, ast.Call):
+                called = node.value.func
+                name = called.id if isinstance(called, ast.Name) else called.attr
+                self.assertNotIn(name, ("zip", "enumerate", "reversed", "range", "items", "keys", "values"), where)
+
     def test_methods(self):
         own = {part.name for tree in self.trees.values() for node in tree.body if isinstance(node, ast.ClassDef)
                for part in node.body if isinstance(part, ast.FunctionDef)}

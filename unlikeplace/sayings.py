@@ -48,6 +48,11 @@ def against(saying):
                   lambda part, one, other: (OTHER_JOIN[part[0]], one, other))
 
 
+def rejoined(part, one, other):
+    """Two sayings joined as a part of a saying joins its own."""
+    return (part[0], one, other)
+
+
 def without_not(saying):
     """Whether all bits of a saying are 1."""
     return all([part[2] == 1 for part in upward(saying, "is") if part[0] == "is"])

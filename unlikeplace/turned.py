@@ -1,5 +1,6 @@
 """Questions turned about: places flipped or exchanged, hands swapped; sayings and talks go along."""
 
+from unlikeplace.sayings import rejoined
 from unlikeplace.trees import folded
 
 OTHER_HAND = {"yes": "no", "no": "yes"}
@@ -28,11 +29,6 @@ def flipped_saying(saying, some):
 def flipped_leaf(leaf, some):
     """A leaf of a saying, with the other bit where it is at one of some places."""
     return ("is", leaf[1], 1 - leaf[2] if leaf[1] in some else leaf[2])
-
-
-def rejoined(part, one, other):
-    """Two sayings joined as a part of a saying joins its own."""
-    return (part[0], one, other)
 
 
 def flipped_talk(talk, some):
